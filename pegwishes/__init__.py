@@ -1,0 +1,1 @@
+"""Pegwishes: pegs, strings and hoops that keep wishes, exactly."""
