@@ -1,6 +1,5 @@
 """Shapes: what a figure has of places and reach, told by its pegs and numbers."""
 
-from pegwishes.errors import NoFigure
 from pegwishes.sheets import figure_at, kind_or_none
 
 
@@ -12,10 +11,8 @@ def shape_of(sheet, path):
     if kind == "string":
         _, _, one, other = figure_at(sheet, path)
         return ("string", sheet.place(one), sheet.place(other))
-    if kind == "hoop":
-        _, _, peg = figure_at(sheet, path)
-        return ("hoop", sheet.place(peg), _reach_of(sheet, path))
-    raise NoFigure(path)
+    _, _, peg = figure_at(sheet, path)
+    return ("hoop", sheet.place(peg), _reach_of(sheet, path))
 
 
 def _reach_of(sheet, path):

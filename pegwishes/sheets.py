@@ -36,7 +36,7 @@ class Sheet:
         """The place of a tray or a peg."""
         if self.kind(path) not in ("tray", "peg"):
             raise NoFigure(path)
-        sums = {"x": NOUGHT, "y": NOUGHT, "r": NOUGHT}
+        sums = {"x": NOUGHT, "y": NOUGHT}
         for held, axis, value in self.numbers():
             if held == path or is_within(path, held):
                 sums[axis] = plus(sums[axis], value)

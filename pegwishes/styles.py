@@ -24,11 +24,11 @@ def bad_spot(sheet, rule):
     if len(rule) != 4:
         return 0
     how, what, key, value = rule
-    if not is_word_of(how, ("kind", "in", "at")):
+    if how not in ("kind", "in", "at"):
         return 0
     if not _is_what(sheet, how, what):
         return 1
-    if not is_word_of(key, ("ink", "layer", "shown")):
+    if key not in ("ink", "layer", "shown"):
         return 2
     if not _is_value(key, value):
         return 3
@@ -40,17 +40,10 @@ def is_ink(thing):
     return is_name(thing) and len(thing) == 1
 
 
-def is_word_of(thing, words):
-    """Whether a thing is a text, and one of these words."""
-    return isinstance(thing, str) and thing in words
-
-
 def _is_what(sheet, how, what):
     """Whether a thing is what a rule may be for."""
-    if not isinstance(what, str):
-        return False
     if how == "kind":
-        return what in INKS
+        return what in ("peg", "string", "hoop")
     kind = kind_or_none(sheet, what)
     if how == "in":
         return kind == "tray"
@@ -63,7 +56,7 @@ def _is_value(key, value):
         return is_ink(value)
     if key == "layer":
         return is_number(value) and 0 <= value <= 9
-    return is_word_of(value, ("yes", "no"))
+    return value in ("yes", "no")
 
 
 def _value_of(sheet, path, key, without):

@@ -57,8 +57,6 @@ def _is_so(sheet, sign, thing):
     """Whether a thing is what its sign asks for."""
     if sign == "N":
         return is_frac(thing)
-    if not isinstance(thing, str):
-        return False
     if sign == "S":
         return thing in SIDES
     kind = kind_or_none(sheet, thing)

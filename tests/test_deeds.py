@@ -392,6 +392,7 @@ class Style(Case):
             self.refused(("unstyle", spot), NoStyle, spot=spot)
         with self.assertRaises(NoStyle):
             done(Sheet(), ("unstyle", 0))
+        self.refused(("unstyle", -1), NoStyle, spot=-1)
 
 
 class Kept(Case):

@@ -183,6 +183,32 @@ class Rows(unittest.TestCase):
         for name, node in nodes(ast.Attribute):
             self.assertIsNone(BARRED.search(node.attr), name)
 
+    def test_no_local_name_of_an_import_or_a_class(self):
+        for name, tree in TREES.items():
+            taken = {row.name for node in imports_of(name) for row in node.names}
+            taken |= {node.name for node in tree.body if isinstance(node, ast.ClassDef)}
+            local = [word for node in tree.body if not isinstance(node, ast.ClassDef) for word in bound_names(node)]
+            local += [word for node in tree.body if isinstance(node, ast.ClassDef) for row in node.body for word in bound_names(row)]
+            self.assertFalse(taken & set(local), name)
+
+    def test_no_generator_expressions(self):
+        # Sheets are == and have a len, so any, all, sum and their like take lists.
+        for name, _ in nodes((ast.GeneratorExp, ast.Yield, ast.YieldFrom, ast.Lambda, ast.Match, ast.Set, ast.SetComp)):
+            self.fail(name)
+
+    def test_no_tables_changed(self):
+        for name, tree in TREES.items():
+            tables = {
+                target.id for node in tree.body if isinstance(node, ast.Assign) for target in node.targets
+                if isinstance(node.value, (ast.Dict, ast.List))
+            }
+            for node in ast.walk(tree):
+                if isinstance(node, ast.Subscript) and not isinstance(node.ctx, ast.Load):
+                    self.assertNotIn(ast.unparse(node.value), tables, name)
+                if isinstance(node, ast.Call):
+                    told = [ast.unparse(part) for part in node.args]
+                    self.assertFalse(tables & set(told), name)
+
     def test_what_is_caught(self):
         own = set(defined_in("errors.py"))
         for name, node in nodes(ast.ExceptHandler):

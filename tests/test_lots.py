@@ -177,6 +177,10 @@ class ShowsLot(unittest.TestCase):
                       ["z", "x", "q"], ["z", "x", None], ["z", "x", 3], ["z", "x", ["w"]], ["z", True, "w"]]:
             self.assertFalse(self.shows(names, self.paper()), names)
 
+    def test_names_in_no_list(self):
+        for names in ["zxw", None, {"z": 1, "x": 2, "w": 3}, True, 3]:
+            self.assertFalse(self.shows(names, self.paper()))
+
     def test_one_weight_otherwise(self):
         for at, weight in enumerate(self.weights):
             for part in [q(fractions([weight])[0] + 1), (2, 4), (True, 1), None, 1, "1", [1, 1], [weight], True]:

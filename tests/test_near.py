@@ -169,6 +169,16 @@ class ShowsNear(unittest.TestCase):
         self.assertFalse(self.shows(self.numbers, self.weights + [q(0)]))
         self.assertFalse(self.shows(self.numbers, []))
 
+    def test_a_thing_for_a_number(self):
+        for at in range(len(self.numbers)):
+            for part in [(2, 4), (0, 2), (True, 1), None, 1, "1", [1, 1], True]:
+                numbers = list(self.numbers)
+                numbers[at] = part
+                self.assertFalse(self.shows(numbers, self.weights))
+        one = built("peg a 0 0", "peg b 0 0")
+        self.assertIs(shows_near(one, wish("pin a 1 0"), [(True, 1)] + qs("0 0 0"), qs("1 0")), False)
+        self.assertIs(shows_near(one, wish("pin a 1 0"), qs("1 0 0 0"), qs("1 0")), True)
+
     def test_one_weight_otherwise(self):
         for at in range(len(self.weights)):
             for part in [(2, 4), (0, 2), (1, 0), (True, 1), None, 1, "1", [1, 1], True, (1,), [self.weights[at]]]:

@@ -154,6 +154,10 @@ class Keeps(unittest.TestCase):
         self.assertIs(keeps([row("0 0: 0")], qs("1 2")), True)
         self.assertIs(keeps([row("0 0: 1")], qs("1 2")), False)
 
+    def test_as_many_numbers_as_shares(self):
+        self.assertIs(keeps([row("1 0: 1")], qs("1")), False)
+        self.assertIs(keeps([row("1 0: 1")], qs("1 0 0")), False)
+
     def test_tuples_may_be_handed_in(self):
         self.assertIs(keeps(tuple(self.ROWS), tuple(qs("1 2 1"))), True)
 

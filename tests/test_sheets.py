@@ -128,8 +128,8 @@ class Alike(unittest.TestCase):
     def test_the_same(self):
         one, other = built(*self.ROWS), built(*self.ROWS)
         self.assertIsNot(one, other)
-        self.assertTrue(one == other)
-        self.assertFalse(one != other)
+        self.assertIs(one == other, True)
+        self.assertIs(one != other, False)
         self.assertTrue(Sheet() == Sheet())
 
     def test_one_thing_otherwise(self):
@@ -140,8 +140,8 @@ class Alike(unittest.TestCase):
             (6, "style at b ink q"), (6, "style at a ink p"), (6, "style kind peg ink q"),
         ]:
             other = built(*self.ROWS[:at], row, *self.ROWS[at + 1:])
-            self.assertFalse(sheet == other, row)
-            self.assertTrue(sheet != other, row)
+            self.assertIs(sheet == other, False, row)
+            self.assertIs(sheet != other, True, row)
 
     def test_one_left_out_or_more(self):
         sheet = built(*self.ROWS)
@@ -162,8 +162,8 @@ class Alike(unittest.TestCase):
 
     def test_nothing_of_another_class(self):
         for thing in ODD + [Sheet, "Sheet(0)", object()]:
-            self.assertFalse(Sheet() == thing)
-            self.assertTrue(Sheet() != thing)
+            self.assertIs(Sheet() == thing, False)
+            self.assertIs(Sheet() != thing, True)
 
 
 class Kept(unittest.TestCase):
