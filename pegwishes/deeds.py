@@ -66,16 +66,31 @@ def _stamped(sheet, deed):
     return _changed(sheet, sheet.figures() + figures, values_of(sheet) + values)
 
 
-def _wished(sheet, deed):
-    """A wish comes."""
+def aim_of(sheet, deed):
+    """The wish that the numbers behind a wish or a move are the nearest to keep."""
+    if deed[0] == "move":
+        _, path, x, y = deed
+        if kind_or_none(sheet, path) not in ("tray", "peg"):
+            raise NoFigure(path)
+        return ("pin", path, x, y)
     _, name, wish = deed
     if name in _wish_names(sheet):
         raise Known(name)
     part = bad_part(sheet, wish)
     if part is not None:
         raise BadWish(part)
-    values = nearest(sheet, wish)
-    return sheet_of(sheet.figures(), values, sheet.wishes() + [(name, wish)], sheet.styles())
+    return wish
+
+
+def drawn(sheet, deed, values):
+    """The sheet behind a wish or a move, where these are its numbers."""
+    coming = [(deed[1], deed[2])] if deed[0] == "wish" else []
+    return sheet_of(sheet.figures(), values, sheet.wishes() + coming, sheet.styles())
+
+
+def _drawn_nearest(sheet, deed):
+    """A wish comes, or a tray or a peg goes to a place; either draws the rest behind it."""
+    return drawn(sheet, deed, nearest(sheet, aim_of(sheet, deed)))
 
 
 def _unwished(sheet, deed):
@@ -85,14 +100,6 @@ def _unwished(sheet, deed):
         raise NoWish(name)
     wishes = [pair for pair in sheet.wishes() if pair[0] != name]
     return sheet_of(sheet.figures(), values_of(sheet), wishes, sheet.styles())
-
-
-def _moved(sheet, deed):
-    """A tray or a peg goes to a place, and draws the rest behind it."""
-    _, path, x, y = deed
-    if kind_or_none(sheet, path) not in ("tray", "peg"):
-        raise NoFigure(path)
-    return _changed(sheet, sheet.figures(), nearest(sheet, ("pin", path, x, y)))
 
 
 def _styled(sheet, deed):
@@ -174,9 +181,9 @@ ACTIONS = {
     "hoop": _hooped,
     "remove": _removed,
     "stamp": _stamped,
-    "wish": _wished,
+    "wish": _drawn_nearest,
     "unwish": _unwished,
-    "move": _moved,
+    "move": _drawn_nearest,
     "style": _styled,
     "unstyle": _unstyled,
 }

@@ -6,6 +6,9 @@ from pegwishes.sheets import kind_or_none
 from pegwishes.whole import is_number
 
 INKS = {"peg": "o", "string": "s", "hoop": "c"}
+HOWS = ("kind", "in", "at")
+KEYS = ("ink", "layer", "shown")
+SHOWN = ("yes", "no")
 # An at goes ahead of any tray, of which a figure is in two at most.
 AT = 9
 
@@ -24,11 +27,11 @@ def bad_spot(sheet, rule):
     if len(rule) != 4:
         return 0
     how, what, key, value = rule
-    if how not in ("kind", "in", "at"):
+    if how not in HOWS:
         return 0
     if not _is_what(sheet, how, what):
         return 1
-    if key not in ("ink", "layer", "shown"):
+    if key not in KEYS:
         return 2
     if not _is_value(key, value):
         return 3
@@ -56,7 +59,7 @@ def _is_value(key, value):
         return is_ink(value)
     if key == "layer":
         return is_number(value) and 0 <= value <= 9
-    return value in ("yes", "no")
+    return value in SHOWN
 
 
 def _value_of(sheet, path, key, without):

@@ -6,7 +6,10 @@ import re
 from fractions import Fraction
 
 from pegwishes.deeds import done
+from pegwishes.errors import BadPath, BadStyle, BadWish, Clash, Known, NoFigure, NoStyle, NoWish
 from pegwishes.sheets import Sheet
+
+REFUSED = (BadPath, BadStyle, BadWish, Clash, Known, NoFigure, NoStyle, NoWish)
 
 
 def q(value):
@@ -238,3 +241,42 @@ class Chance:
             if can_be_kept(rows):
                 sheet = done(sheet, ("wish", "w" + "abcdefghij"[at], wish))
         return sheet
+
+    def deed(self, sheet):
+        """A deed, most often one that the sheet does not refuse."""
+        dice = self.dice
+        paths = {kind: [figure[1] for figure in sheet.figures() if figure[0] == kind] for kind in ("tray", "peg", "string", "hoop")}
+        places = paths["tray"] + paths["peg"]
+        home = dice.choice([""] + [tray + "." for tray in paths["tray"]])
+        fresh = home + "n" + dice.choice("abcdefghijklmnopqrst")
+        word = dice.choice("tray peg string hoop remove stamp wish wish wish unwish move move move style style unstyle".split())
+        if word in ("tray", "peg"):
+            return (word, fresh, self.number(), self.number())
+        if word == "string":
+            return (word, fresh, *(dice.sample(paths["peg"], 2) if len(paths["peg"]) > 1 else ["a", "b"]))
+        if word == "hoop":
+            return (word, fresh, dice.choice(paths["peg"] or ["a"]), self.number())
+        if word == "remove":
+            return (word, dice.choice(places + paths["string"] + paths["hoop"] or ["a"]))
+        if word == "stamp":
+            return (word, dice.choice(paths["tray"] or ["a"]), fresh)
+        if word == "wish":
+            return (word, "v" + dice.choice("abcdefghijkl"), self.wish(sheet) if len(places) > 3 else None)
+        if word == "unwish":
+            return (word, dice.choice([name for name, _ in sheet.wishes()] or ["a"]))
+        if word == "move":
+            return (word, dice.choice(places or ["a"]), self.number(), self.number())
+        if word == "unstyle":
+            return (word, dice.randrange(1 + len(sheet.styles())))
+        how = dice.choice(["kind", "in", "at"])
+        whats = {"kind": ["peg", "string", "hoop"], "in": paths["tray"], "at": paths["peg"] + paths["string"] + paths["hoop"]}
+        key = dice.choice(["ink", "layer", "shown"])
+        value = {"ink": dice.choice("qrstuv"), "layer": dice.randrange(10), "shown": dice.choice(["yes", "no"])}[key]
+        return (word, how, dice.choice(whats[how] or ["a"]), key, value)
+
+    def walked(self, sheet):
+        """The sheet behind a deed, or the same where it is refused."""
+        try:
+            return done(sheet, self.deed(sheet))
+        except REFUSED:
+            return sheet

@@ -1,4 +1,4 @@
-"""Promise 1: (a) to (d), and of (e) that cells are those of the strokes and of the sheet; promises 2 and 3 for all files."""
+"""Promise 1 on single sheets: (a) to (d), and of (e) that cells are those of the strokes; the interface; promise 3 on one sheet."""
 
 import inspect
 import unittest
@@ -8,8 +8,9 @@ from making import (
     Chance, all_of, built, can_be_kept, changed, dot, fractions, loose, q, rows_told, rows_told_by, values,
 )
 from pegwishes import (
-    cells, deeds, errors, firm, fracs, hangs, lots, measures, near, roots, rows, sheets, strokes, styles, wishes,
+    boards, cells, deeds, desk, errors, firm, fracs, hangs, lots, measures, near, roots, rows, sheets, stories, strokes, styles, texts, wishes,
 )
+from pegwishes.boards import Board
 from pegwishes.deeds import done
 from pegwishes.errors import Clash
 from pegwishes.rules import HIGH, WIDE
@@ -37,11 +38,18 @@ INTERFACE = {
         "is_frac(thing)", "frac(top, bottom=1)", "plus(one, other)", "minus(one, other)", "times(one, other)", "over(one, other)",
         "sign_of(one)", "floor_of(one)", "frac_text(one)", "frac_in(text)",
     ],
+    texts: ["sheet_text(sheet)", "sheet_in(text)", "deed_text(deed)", "deed_in(text)"],
+    stories: ["told_story(deeds)", "shows_story(thing)", f"page(story, *, left=0, low=0, wide={WIDE}, high={HIGH})"],
+    desk: ["answers(text)"],
     roots: [
         "is_root(thing)", "rooted(a, b, many)", "root_of(square)", "root_sign(root)", "is_less(one, other)", "root_text(root)",
         "root_in(text)",
     ],
 }
+BOARD = [
+    "new(self, name)", "drop(self, name)", "copy(self, name, other)", "put(self, name, deed)", "do(self, deeds)", "undo(self)", "redo(self)",
+    "names(self)", "sheet(self, name)", "deeds(self)", "as_of(self, many)", "twin(self)", "log(self)", "is_open(self)",
+]
 METHODS = ["figures(self)", "numbers(self)", "kind(self, path)", "place(self, path)", "wishes(self)", "styles(self)"]
 
 
@@ -54,14 +62,15 @@ class Interface(unittest.TestCase):
                 self.assertEqual(call.__module__, file.__name__)
                 self.assertEqual(name + str(inspect.signature(call)), row)
 
-    def test_the_class_sheet(self):
-        self.assertEqual(Sheet.__module__, sheets.__name__)
-        self.assertEqual(str(inspect.signature(Sheet)), "()")
-        for row in METHODS:
-            name = row.partition("(")[0]
-            self.assertEqual(name + str(inspect.signature(vars(Sheet)[name])), row)
-        for name in ["__len__", "__eq__", "__repr__"]:
-            self.assertIn(name, vars(Sheet))
+    def test_classes(self):
+        for kind, file, methods in [(Sheet, sheets, METHODS), (Board, boards, BOARD)]:
+            self.assertEqual(kind.__module__, file.__name__)
+            self.assertEqual(str(inspect.signature(kind)), "()")
+            for row in methods:
+                name = row.partition("(")[0]
+                self.assertEqual(name + str(inspect.signature(vars(kind)[name])), row)
+            for name in ["__len__", "__eq__", "__repr__"]:
+                self.assertIn(name, vars(kind))
 
 
 def walks(seed, many, steps):

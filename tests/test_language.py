@@ -209,6 +209,18 @@ class Rows(unittest.TestCase):
                     told = [ast.unparse(part) for part in node.args]
                     self.assertFalse(tables & set(told), name)
 
+    def test_what_stands_in_a_finally(self):
+        for name, node in nodes(ast.Try):
+            for row in node.finalbody:
+                self.assertRegex(ast.unparse(row), r"^self\._[a-z]+( -= 1|\.append\(\('[a-z]+', ('[a-z]+'|[a-z]+)\)\))$", name)
+
+    def test_tables_have_functions_of_their_own_file(self):
+        for name, tree in TREES.items():
+            for node in tree.body:
+                if isinstance(node, ast.Assign):
+                    told = {part.id for part in ast.walk(node.value) if isinstance(part, ast.Name)}
+                    self.assertLessEqual(told, set(defined_in(name)), name)
+
     def test_what_is_caught(self):
         own = set(defined_in("errors.py"))
         for name, node in nodes(ast.ExceptHandler):
