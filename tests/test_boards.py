@@ -1,6 +1,7 @@
 """Promise 18: boards."""
 
 import unittest
+from unittest import mock
 
 from making import REFUSED, Chance, all_of, built, changed, deed, q
 from pegwishes.boards import Board
@@ -380,7 +381,8 @@ class Asks(Case):
                 self.assertIs(other.undo(), True)
                 self.assertEqual(other, board.as_of(at))
             self.assertIs(other.undo(), False)
-        for many in [12, 13, 60, 10 ** 40]:
+        # Of fewer than none there is no board, either.
+        for many in [12, 13, 60, 10 ** 40, -1]:
             self.refused(lambda: board.as_of(many), NoDeed, many=many)
         self.assertIs(board.redo(), True)
         self.assertEqual(board.as_of(12).deeds(), 12)
@@ -443,6 +445,42 @@ class Asks(Case):
         self.assertIs(board.is_open(), False)
         board.undo()
         self.assertIs(board.is_open(), False)
+
+
+    def test_is_open_just_while_a_deed_is_at_work(self):
+        board = board_of(a=[])
+        for _ in range(3):
+            board.undo()
+            board.redo()
+            board.do([])
+        told = []
+
+        def asking(sheet, each):
+            told.append((board.is_open(), board.log()[-2:]))
+            return done(sheet, each)
+
+        with mock.patch("pegwishes.boards.done", side_effect=asking):
+            board.put("a", deed("peg p 1 1"))
+            self.assertIs(board.is_open(), False)
+            board.do([("put", "a", deed("peg q 1 1")), ("put", "a", deed("peg r 1 1"))])
+            self.assertIs(board.is_open(), False)
+            with self.assertRaises(Known):
+                board.do([("put", "a", deed("peg s 1 1")), ("put", "a", deed("peg s 1 1"))])
+        self.assertEqual(told, [
+            (True, [("out", "do"), ("in", "put")]), (True, [("in", "do"), ("in", "put")]), (True, [("out", "put"), ("in", "put")]),
+            (True, [("in", "do"), ("in", "put")]), (True, [("out", "put"), ("in", "put")]),
+        ])
+        self.assertIs(board.is_open(), False)
+
+    def test_shut_again_whatever_goes_wrong(self):
+        board = board_of(a=[])
+        before = all_on(board)
+        with mock.patch("pegwishes.boards.done", side_effect=ArithmeticError):
+            for call in [lambda: board.put("a", deed("peg p 1 1")), lambda: board.do([("new", "b"), ("put", "a", deed("peg p 1 1"))])]:
+                with self.assertRaises(ArithmeticError):
+                    call()
+        self.assertEqual(all_on(board), before)
+        self.assertEqual(board.log(), ends("new", "put") + within("new", "put"))
 
 
 class Objects(Case):

@@ -390,6 +390,7 @@ class Pages(Case):
 
     def test_by_hand(self):
         self.assertEqual(page(BY_HAND, wide=7, high=2), [".......", ".....o."])
+        self.assertEqual(page(BY_HAND[:1], wide=2, high=1), ["o."])
         self.assertEqual(page(BY_HAND[:3], low=-1, wide=3, high=2), ["...", ".o."])
 
 
